@@ -1,0 +1,1 @@
+"""Labelways: webs whose places bear labels from which ways are told."""

@@ -1,0 +1,66 @@
+"""Webs: whether a thing is one, and what its ties tell of its places."""
+
+from labelways.kinds import is_tuple_of, is_within
+
+MOST_PLACES = 24
+MOST_TIES = 60
+MOST_LONG = 99
+
+
+def is_web(thing):
+    if not is_tuple_of(thing, 2):
+        return False
+    return is_within(thing[0], 1, MOST_PLACES) and are_ties(thing[0], thing[1])
+
+
+def are_ties(n, thing):
+    # How many there are is asked first, for a thing may be as long as it likes.
+    if not isinstance(thing, tuple) or len(thing) > MOST_TIES:
+        return False
+    return all([is_tie(n, tie) for tie in thing]) and are_rising(thing)
+
+
+def is_tie(n, thing):
+    if not is_tuple_of(thing, 3):
+        return False
+    if not is_within(thing[0], 0, n - 1) or not is_within(thing[1], 0, n - 1):
+        return False
+    return thing[0] < thing[1] and is_within(thing[2], 1, MOST_LONG)
+
+
+def are_rising(ties):
+    # The longs are left out, else two places joined twice could pass as rising.
+    pairs = [tie[:2] for tie in ties]
+    return all([pairs[k - 1] < pairs[k] for k in range(1, len(pairs))])
+
+
+def ties_at(web, place):
+    found = []
+    for a, b, long in web[1]:
+        if a == place:
+            found.append((b, long))
+        if b == place:
+            found.append((a, long))
+    return sorted(found)
+
+
+def long_of(web, one, other):
+    for place, long in ties_at(web, one):
+        if place == other:
+            return long
+    return None
+
+
+def beside(web, place):
+    return tuple([other for other, long in ties_at(web, place)])
+
+
+def is_whole(web):
+    met = [0]
+    gone = 0
+    while gone < len(met):
+        for place in beside(web, met[gone]):
+            if place not in met:
+                met.append(place)
+        gone += 1
+    return len(met) == web[0]

@@ -1,0 +1,204 @@
+"""The rules of the language that can be seen in the package's files one by one; the rest is for a reader."""
+
+import ast
+import builtins
+import pathlib
+import re
+import unittest
+
+PACKAGE = pathlib.Path(__file__).resolve().parent.parent / "labelways"
+
+NODES = """
+    Module FunctionDef ClassDef arguments arg Return Assign AugAssign For While If Raise Try ExceptHandler
+    ImportFrom alias Expr Pass Break Continue BoolOp And Or BinOp UnaryOp Not USub UAdd Invert Lambda IfExp
+    Dict List Tuple Set ListComp comprehension Compare Call keyword JoinedStr FormattedValue Constant Attribute
+    Subscript Slice Name Load Store Add Sub Mult FloorDiv Mod Pow BitAnd BitOr BitXor LShift RShift
+    Eq NotEq Lt LtE Gt GtE Is IsNot In NotIn
+""".split()
+OWN_NAMES = """
+    len range enumerate zip min max sum abs sorted reversed int str bool list tuple dict set frozenset isinstance
+    ord repr any all divmod Exception ValueError TypeError KeyError IndexError LookupError ZeroDivisionError
+    ArithmeticError OverflowError RuntimeError NotImplementedError AttributeError StopIteration
+""".split()
+METHODS = """
+    append clear copy count endswith extend find get index insert isalnum isalpha isdigit islower isspace isupper
+    items join keys ljust lower lstrip partition pop remove replace reverse rfind rjust rpartition rsplit rstrip
+    setdefault split splitlines startswith strip update upper values zfill bit_length __init__
+""".split()
+DUNDERS = ["__init__", "__eq__", "__repr__", "__str__", "__len__"]
+WORDS = """
+    type typing typing_extensions enum Enum IntEnum StrEnum Flag IntFlag Generic Protocol ABC ABCMeta namedtuple
+    NamedTuple TypedDict TYPE_CHECKING abstractmethod
+""".split()
+TAKEN = [name for name in dir(builtins) if not name.startswith("__")]
+PARTS_OF_WORDS = ["dataclass", "overload", "contextmanager"]
+
+
+def files():
+    return sorted(PACKAGE.glob("*.py"))
+
+
+def tree_of(path):
+    return ast.parse(path.read_text(encoding="utf-8"))
+
+
+def all_nodes():
+    for path in files():
+        for node in ast.walk(tree_of(path)):
+            yield f"{path.name}:{getattr(node, 'lineno', 0)}", node
+
+
+def names_at_top(tree):
+    found = []
+    for node in tree.body:
+        if isinstance(node, (ast.FunctionDef, ast.ClassDef)):
+            found.append(node.name)
+        if isinstance(node, ast.Assign):
+            found.extend(target.id for target in node.targets)
+    return found
+
+
+def own_methods():
+    found = []
+    for where, node in all_nodes():
+        if isinstance(node, ast.ClassDef):
+            found.extend(part.name for part in node.body if isinstance(part, ast.FunctionDef))
+    return found
+
+
+def bound_names(node):
+    if isinstance(node, (ast.FunctionDef, ast.ClassDef)):
+        return [node.name]
+    if isinstance(node, ast.arg):
+        return [node.arg]
+    if isinstance(node, ast.Name) and isinstance(node.ctx, ast.Store):
+        return [node.id]
+    if isinstance(node, ast.Attribute) and isinstance(node.ctx, ast.Store):
+        return [node.attr]
+    return []
+
+
+class Files(unittest.TestCase):
+    def test_names(self):
+        self.assertIn(PACKAGE / "__init__.py", files())
+        for path in PACKAGE.iterdir():
+            if path.name != "__pycache__":
+                self.assertRegex(path.name, r"^(__init__|__main__|[a-z][a-z0-9_]*)\.py$")
+                self.assertNotIn(path.stem, TAKEN)
+
+    def test_signs_and_sizes(self):
+        for path in files():
+            text = path.read_text(encoding="utf-8")
+            self.assertRegex(text, r"\A[ -~\n]*\Z", path.name)
+            self.assertLessEqual(len(text.splitlines()), 400, path.name)
+            self.assertLessEqual(max(len(line) for line in text.splitlines()), 120, path.name)
+
+    def test_words(self):
+        for path in files():
+            text = path.read_text(encoding="utf-8")
+            for word in WORDS:
+                self.assertIsNone(re.search(rf"\b{word}\b", text), (path.name, word))
+            for word in PARTS_OF_WORDS:
+                self.assertNotIn(word, text, path.name)
+
+
+class Forms(unittest.TestCase):
+    def test_nodes(self):
+        for where, node in all_nodes():
+            self.assertIn(type(node).__name__, NODES, where)
+
+    def test_top_of_a_module(self):
+        for path in files():
+            tree = tree_of(path)
+            self.assertIsNotNone(ast.get_docstring(tree), path.name)
+            for node in tree.body[1:]:
+                self.assertIsInstance(node, (ast.ImportFrom, ast.FunctionDef, ast.ClassDef, ast.Assign), path.name)
+            names = names_at_top(tree)
+            self.assertEqual(len(names), len(set(names)), path.name)
+
+    def test_statements(self):
+        tops = [ast.dump(tree_of(path).body[0]) for path in files()]
+        for where, node in all_nodes():
+            if isinstance(node, ast.Expr) and ast.dump(node) not in tops:
+                self.assertIsInstance(node.value, ast.Call, where)
+            if isinstance(node, ast.Assign):
+                self.assertEqual(len(node.targets), 1, where)
+            if isinstance(node, (ast.For, ast.While)):
+                self.assertEqual(node.orelse, [], where)
+            if isinstance(node, ast.Try):
+                self.assertEqual(node.finalbody, [], where)
+
+    def test_functions(self):
+        for where, node in all_nodes():
+            if isinstance(node, ast.FunctionDef):
+                self.assertLessEqual(node.end_lineno - node.lineno + 1, 40, where)
+                self.assertEqual(node.decorator_list, [], where)
+            if isinstance(node, ast.arguments):
+                self.assertFalse(node.vararg or node.kwarg or node.kwonlyargs or node.posonlyargs, where)
+
+    def test_classes(self):
+        for where, node in all_nodes():
+            if isinstance(node, ast.ClassDef):
+                self.assertLessEqual(len(node.bases), 1, where)
+                self.assertEqual(node.keywords + node.decorator_list, [], where)
+                for part in node.body:
+                    self.assertIsInstance(part, (ast.FunctionDef, ast.Pass), where)
+
+    def test_expressions(self):
+        for where, node in all_nodes():
+            if isinstance(node, ast.Constant):
+                self.assertIn(type(node.value), (int, str, bool, type(None)), where)
+                self.assertNotIn("%", str(node.value), where)
+            if isinstance(node, ast.ListComp):
+                self.assertEqual(len(node.generators), 1, where)
+                self.assertLessEqual(len(node.generators[0].ifs), 1, where)
+            if isinstance(node, ast.Compare) and isinstance(node.ops[0], (ast.Is, ast.IsNot)):
+                self.assertIn(ast.dump(node.comparators[0]), [f"Constant(value={v})" for v in (None, True, False)], where)
+
+
+class Names(unittest.TestCase):
+    def test_python_s_own(self):
+        for where, node in all_nodes():
+            if isinstance(node, ast.Name) and node.id in dir(builtins):
+                self.assertIn(node.id, OWN_NAMES, where)
+
+    def test_bound(self):
+        for where, node in all_nodes():
+            for name in bound_names(node):
+                if name not in DUNDERS:
+                    self.assertRegex(name, r"^[A-Za-z][A-Za-z0-9_]*$", where)
+                if not isinstance(node, ast.Attribute):
+                    self.assertNotIn(name, TAKEN, where)
+
+    def test_methods(self):
+        methods = METHODS + own_methods()
+        for where, node in all_nodes():
+            if isinstance(node, ast.Call) and isinstance(node.func, ast.Attribute):
+                self.assertIn(node.func.attr, methods, where)
+
+
+class Imports(unittest.TestCase):
+    def test_from_the_file_that_defines_the_name(self):
+        for where, node in all_nodes():
+            if isinstance(node, ast.ImportFrom):
+                self.assertEqual(node.level, 0, where)
+                self.assertRegex(node.module, r"^labelways\.[a-z][a-z0-9_]*$", where)
+                tops = names_at_top(tree_of(PACKAGE / (node.module.split(".")[1] + ".py")))
+                for alias in node.names:
+                    self.assertIn(alias.name, tops, where)
+                    self.assertIsNone(alias.asname, where)
+
+    def test_no_two_files_draw_from_one_another(self):
+        drawn = {}
+        for path in files():
+            found = [node.module for node in ast.walk(tree_of(path)) if isinstance(node, ast.ImportFrom)]
+            drawn[f"labelways.{path.stem}"] = found
+        left = dict(drawn)
+        while left:
+            free = [name for name in left if not any(other in left for other in left[name])]
+            self.assertTrue(free, sorted(left))
+            left = {name: found for name, found in left.items() if name not in free}
+
+
+if __name__ == "__main__":
+    unittest.main()
