@@ -12,3 +12,7 @@ def is_within(thing, least, most):
 
 def is_tuple_of(thing, count):
     return isinstance(thing, tuple) and len(thing) == count
+
+
+def is_rising(things):
+    return all([things[k - 1] < things[k] for k in range(1, len(things))])

@@ -35,17 +35,22 @@ def way_length(web, places):
 
 
 def between(web, one, other):
-    here = lengths_from(web, one)
-    there = lengths_from(web, other)
+    return between_rows(lengths_from(web, one), lengths_from(web, other), other)
+
+
+def between_rows(here, there, other):
     if here[other] is None:
         return ()
     # Both ends lie in one joined part here, so a place that one reaches the other reaches too.
-    reached = [place for place in range(web[0]) if here[place] is not None]
+    reached = [place for place in range(len(here)) if here[place] is not None]
     return tuple([place for place in reached if here[place] + there[place] == here[other]])
 
 
 def next_places(web, one, other):
-    there = lengths_from(web, other)
+    return next_by_row(web, one, lengths_from(web, other))
+
+
+def next_by_row(web, one, there):
     if there[one] is None:
         return ()
     return tuple([place for place, long in ties_at(web, one) if long + there[place] == there[one]])

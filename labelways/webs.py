@@ -1,6 +1,6 @@
 """Webs: whether a thing is one, and what its ties tell of its places."""
 
-from labelways.kinds import is_tuple_of, is_within
+from labelways.kinds import is_rising, is_tuple_of, is_within
 
 MOST_PLACES = 24
 MOST_TIES = 60
@@ -17,7 +17,10 @@ def are_ties(n, thing):
     # How many there are is asked first, for a thing may be as long as it likes.
     if not isinstance(thing, tuple) or len(thing) > MOST_TIES:
         return False
-    return all([is_tie(n, tie) for tie in thing]) and are_rising(thing)
+    if not all([is_tie(n, tie) for tie in thing]):
+        return False
+    # The longs are left out, else two places joined twice could pass as rising.
+    return is_rising([tie[:2] for tie in thing])
 
 
 def is_tie(n, thing):
@@ -26,12 +29,6 @@ def is_tie(n, thing):
     if not is_within(thing[0], 0, n - 1) or not is_within(thing[1], 0, n - 1):
         return False
     return thing[0] < thing[1] and is_within(thing[2], 1, MOST_LONG)
-
-
-def are_rising(ties):
-    # The longs are left out, else two places joined twice could pass as rising.
-    pairs = [tie[:2] for tie in ties]
-    return all([pairs[k - 1] < pairs[k] for k in range(1, len(pairs))])
 
 
 def ties_at(web, place):

@@ -170,6 +170,32 @@ class Names(unittest.TestCase):
                 if not isinstance(node, ast.Attribute):
                     self.assertNotIn(name, TAKEN, where)
 
+    def test_no_local_like_a_class_or_an_import_of_its_file(self):
+        for path in files():
+            tree = tree_of(path)
+            taken = [node.name for node in tree.body if isinstance(node, ast.ClassDef)]
+            for node in tree.body:
+                if isinstance(node, ast.ImportFrom):
+                    taken.extend(alias.name for alias in node.names)
+            for part in tree.body:
+                for node in ast.walk(part):
+                    if isinstance(node, ast.arg) or isinstance(node, ast.Name) and isinstance(node.ctx, ast.Store):
+                        self.assertNotIn(bound_names(node)[0], taken, (path.name, node.lineno))
+
+    def test_sets_are_not_kept(self):
+        """A set stands straight within sorted or len, or beside in, == or !=."""
+        for path in files():
+            tree = tree_of(path)
+            above = {id(child): node for node in ast.walk(tree) for child in ast.iter_child_nodes(node)}
+            for node in ast.walk(tree):
+                made = isinstance(node, ast.Call) and isinstance(node.func, ast.Name) and node.func.id == "set"
+                if made or isinstance(node, ast.Set):
+                    user = above[id(node)]
+                    while isinstance(user, ast.BinOp):
+                        user = above[id(user)]
+                    within = isinstance(user, ast.Call) and getattr(user.func, "id", None) in ("sorted", "len")
+                    self.assertTrue(within or isinstance(user, ast.Compare), (path.name, node.lineno))
+
     def test_methods(self):
         methods = METHODS + own_methods()
         for where, node in all_nodes():

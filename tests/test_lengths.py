@@ -2,70 +2,12 @@ import copy
 import itertools
 import unittest
 
+from by_hand import great_webs, joined_by_hand, lengths_by_hand, shortest_ways, small_webs
 from labelways.lengths import between, lengths, next_places, way_length
 from labelways.webs import is_web
 
 # 0 to 3 has two ways of 5, by 1 and by 2, and a tie of 6; 4 hangs on 3; 5 and 6 lie apart.
 WEB = (7, ((0, 1, 2), (0, 2, 1), (0, 3, 6), (1, 3, 3), (2, 3, 4), (3, 4, 10), (5, 6, 8)))
-
-
-def small_webs():
-    """Every web of four places whose ties are 1, 2 or 3 long."""
-    pairs = list(itertools.combinations(range(4), 2))
-    for longs in itertools.product((None, 1, 2, 3), repeat=len(pairs)):
-        yield (4, tuple((a, b, long) for (a, b), long in zip(pairs, longs) if long))
-
-
-def great_webs():
-    """Webs of 24 places with crosswise numbers and various longs, some whole, some in parts."""
-    pairs = list(itertools.combinations(range(24), 2))
-    for step, count in [(5, 60), (7, 60), (29, 60), (11, 30), (13, 24), (35, 18)]:
-        chosen = sorted(pairs[(step * k) % 276] for k in range(count))
-        yield (24, tuple((a, b, 1 + (step * a + 17 * b) % 99) for a, b in chosen))
-    yield (24, tuple((a, b, 1) for a, b in pairs if b - a in (1, 6))[:60])
-
-
-def joined_by_hand(web):
-    found = {}
-    for a, b, long in web[1]:
-        found[a, b] = long
-        found[b, a] = long
-    return found
-
-
-def simple_ways(web, one, other):
-    """Every way that meets no place twice, with its length, told from the ties alone."""
-    ties = joined_by_hand(web)
-    inner = [place for place in range(web[0]) if place not in (one, other)]
-    found = []
-    for count in range(len(inner) + 1):
-        for row in itertools.permutations(inner, count):
-            way = (one,) + row + (other,)
-            steps = list(zip(way, way[1:]))
-            if all(step in ties for step in steps):
-                found.append((way, sum(ties[step] for step in steps)))
-    return found
-
-
-def shortest_ways(web, one, other):
-    if one == other:
-        return [(one,)], 0
-    found = simple_ways(web, one, other)
-    least = min((length for way, length in found), default=None)
-    return [way for way, length in found if length == least], least
-
-
-def lengths_by_hand(web):
-    """Lengths by letting one place more at a time stand within a way."""
-    n = web[0]
-    ties = joined_by_hand(web)
-    far = 10 ** 9
-    rows = [[0 if a == b else ties.get((a, b), far) for b in range(n)] for a in range(n)]
-    for via in range(n):
-        for a in range(n):
-            for b in range(n):
-                rows[a][b] = min(rows[a][b], rows[a][via] + rows[via][b])
-    return tuple(tuple(None if long >= far else long for long in row) for row in rows)
 
 
 class Lengths(unittest.TestCase):

@@ -2,6 +2,7 @@ import copy
 import itertools
 import unittest
 
+from by_hand import nested, with_kinds
 from labelways.webs import beside, is_web, is_whole, long_of
 
 # Places 0 to 4 in one piece, 5 by itself; numbers and ties lie crosswise on purpose.
@@ -12,20 +13,6 @@ NO_TIE = (3, ())
 def first_ties(n, count):
     pairs = list(itertools.combinations(range(n), 2))[:count]
     return tuple((a, b, 1 + k % 99) for k, (a, b) in enumerate(pairs))
-
-
-def nested(kind, depth):
-    thing = kind()
-    for _ in range(depth - 1):
-        thing = kind([thing])
-    return thing
-
-
-def with_kinds(thing):
-    """The thing with each kind written beside it: == takes True for 1."""
-    if isinstance(thing, (list, tuple)):
-        return (type(thing).__name__, [with_kinds(one) for one in thing])
-    return (type(thing).__name__, thing)
 
 
 class IsWeb(unittest.TestCase):
