@@ -88,9 +88,14 @@ def great_orders():
         yield tuple((step * k + start) % 24 for k in range(24))
 
 
+def own(place):
+    """The entry of a label's own place."""
+    return (place, 0, None, None)
+
+
 def entry_by_hand(web, rows, place, hub):
     if place == hub:
-        return (hub, 0, None, None)
+        return own(place)
     ties = joined_by_hand(web)
     ups = [p for p in range(web[0]) if (place, p) in ties and rows[p][hub] == rows[place][hub] - ties[place, p]]
     downs = [p for p in range(web[0]) if (hub, p) in ties and rows[p][place] == rows[place][hub] - ties[hub, p]]
@@ -129,7 +134,7 @@ def fault_by_hand(web, labels):
     ties = joined_by_hand(web)
     longs = [{entry[0]: entry[1] for entry in label} for label in labels]
     far = [(v, *entry) for v in range(n) for entry in labels[v] if entry[1] > 0]
-    own = [v for v in range(n) if longs[v].get(v) != 0]
+    strange = [v for v in range(n) if longs[v].get(v) != 0]
     up = [(v, h) for v, h, long, up, down in far
           if (v, up) not in ties or h not in longs[up] or longs[up][h] + ties[v, up] != long]
     rows = [[told_by_hand(one, other) for other in labels] for one in labels]
@@ -137,7 +142,7 @@ def fault_by_hand(web, labels):
            if rows[v][u] is not None and (rows[w][u] is None or rows[w][u] > rows[v][u] + ties[v, w])]
     down = [(v, h) for v, h, long, up, down in far
             if (h, down) not in ties or rows[down][v] is None or rows[down][v] + ties[h, down] != long]
-    for word, found in [("own", own), ("up", up), ("tie", tie), ("down", down)]:
+    for word, found in [("own", strange), ("up", up), ("tie", tie), ("down", down)]:
         if found:
             return (word, min(found))
     return None

@@ -4,7 +4,7 @@ import unittest
 
 from by_hand import (
     all_orders, fault_by_hand, full_labels, great_orders, great_webs, joined_by_hand, labels_by_hand, lengths_by_hand,
-    nested, put_in, small_webs, turned_labels, with_kinds,
+    nested, own, put_in, small_webs, turned_labels, with_kinds,
 )
 from labelways.checker import lets_labels
 from labelways.errors import NoLabels, WayError
@@ -19,10 +19,6 @@ RING = (4, ((0, 1, 1), (0, 3, 1), (1, 2, 1), (2, 3, 1)))
 # 0 to 3 has two ways of 5, by 1 and by 2; 4 hangs on 3; 5 and 6 lie apart.
 WEB = (7, ((0, 1, 2), (0, 2, 1), (0, 3, 6), (1, 3, 3), (2, 3, 4), (3, 4, 10), (5, 6, 8)))
 PARTED = (4, ((0, 2, 1), (1, 3, 2)))
-
-
-def own(place):
-    return (place, 0, None, None)
 
 
 class Checked(unittest.TestCase):

@@ -3,7 +3,7 @@ import itertools
 import unittest
 
 from by_hand import (
-    full_labels, great_orders, great_webs, labels_by_hand, lengths_by_hand, nested, told_by_hand, with_kinds,
+    full_labels, great_orders, great_webs, labels_by_hand, lengths_by_hand, nested, own, told_by_hand, with_kinds,
 )
 from labelways.labels import are_labels, is_label, next_step, own_place, told, told_hub, walk
 
@@ -14,10 +14,6 @@ RING = (4, ((0, 1, 1), (0, 3, 1), (1, 2, 1), (2, 3, 1)))
 # 0 to 3 has two ways of 5, by 1 and by 2; 4 hangs on 3; 5 and 6 lie apart.
 WEB = (7, ((0, 1, 2), (0, 2, 1), (0, 3, 6), (1, 3, 3), (2, 3, 4), (3, 4, 10), (5, 6, 8)))
 WRONG = [None, True, False, "", "0", "label", (), [], (0,), [0], (None,), ((),), ((0, 0, None, None),)]
-
-
-def own(place):
-    return (place, 0, None, None)
 
 
 class IsLabel(unittest.TestCase):

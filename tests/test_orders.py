@@ -3,7 +3,7 @@ import itertools
 import unittest
 
 from by_hand import (
-    all_orders, full_labels, great_orders, great_webs, labels_by_hand, lengths_by_hand, nested, shortest_ways,
+    all_orders, full_labels, great_orders, great_webs, labels_by_hand, lengths_by_hand, nested, own, shortest_ways,
     small_webs, with_kinds,
 )
 from labelways.errors import NoOrder, WayError
@@ -20,10 +20,6 @@ NO_ORDERS = [
     (None, None, None), (0, 1, "2"), (0, 1, ""), ("0", "1", "2"), (0, 1, (2,)), (0, 1, [2]), (0, 1, ()), (0, [], 2),
     ([], [], []), ((), (), ()), None, True, False, 0, 1, 2, 3, -1, 10 ** 39, "", "012", "0 1 2", "x" * 2000,
 ]
-
-
-def own(place):
-    return (place, 0, None, None)
 
 
 class IsOrder(unittest.TestCase):

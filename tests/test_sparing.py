@@ -3,8 +3,8 @@ import itertools
 import unittest
 
 from by_hand import (
-    all_orders, fault_by_hand, full_labels, great_orders, great_webs, labels_by_hand, put_in, small_webs, told_by_hand,
-    turned_labels, with_kinds,
+    all_orders, fault_by_hand, full_labels, great_orders, great_webs, labels_by_hand, own, put_in, small_webs,
+    told_by_hand, turned_labels, with_kinds,
 )
 from labelways.checker import lets_labels
 from labelways.orders import by_order
@@ -15,10 +15,6 @@ ROW = (3, ((0, 1, 2), (1, 2, 3)))
 BENT = (3, ((0, 1, 1), (0, 2, 9), (1, 2, 1)))
 RING = (4, ((0, 1, 1), (0, 3, 1), (1, 2, 1), (2, 3, 1)))
 PARTED = (5, ((0, 2, 1), (1, 3, 2), (1, 4, 2), (3, 4, 3)))
-
-
-def own(place):
-    return (place, 0, None, None)
 
 
 def spare_by_hand(labels):
