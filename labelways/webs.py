@@ -53,11 +53,15 @@ def beside(web, place):
 
 
 def is_whole(web):
-    met = [0]
+    return len(joined_within(web, list(range(web[0])), 0)) == web[0]
+
+
+def joined_within(web, places, start):
+    met = [start]
     gone = 0
     while gone < len(met):
         for place in beside(web, met[gone]):
-            if place not in met:
+            if place in places and place not in met:
                 met.append(place)
         gone += 1
-    return len(met) == web[0]
+    return sorted(met)

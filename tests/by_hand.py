@@ -1,5 +1,6 @@
 """Webs for the tests, and what the document asks of them told anew, without the program."""
 
+import functools
 import itertools
 
 
@@ -63,6 +64,7 @@ def shortest_ways(web, one, other):
     return [way for way, length in found if length == least], least
 
 
+@functools.lru_cache(maxsize=None)
 def lengths_by_hand(web):
     """Lengths by letting one place more at a time stand within a way."""
     n = web[0]
@@ -180,3 +182,162 @@ def turned_labels(n, labels):
                     yield put_in(labels, v, rest + (other,))
         for entry in new_entries(n, label):
             yield put_in(labels, v, label + (entry,))
+
+
+def brings_by_hand(web, places, hub):
+    """Counted place by place, as the document says, from lengths alone."""
+    rows = lengths_by_hand(web)
+    found = []
+    for v in range(web[0]):
+        if v not in places and rows[hub][v] is not None:
+            reached = [p for p in places if rows[hub][p] is not None]
+            if not any(rows[hub][p] + rows[p][v] == rows[hub][v] for p in reached):
+                found.append(v)
+    return len(found)
+
+
+def places_of_set(number):
+    """The rising tuple of places whose set has that number."""
+    return tuple(place for place in range(number.bit_length()) if number // 2 ** place % 2 == 1)
+
+
+def least_fault_by_hand(web, order, numbers):
+    """The first word with a fault and its at, None where there is none; of an ORDER and a number for each set."""
+    if numbers[-1] != 0:
+        return ("end", None)
+    steps = []
+    for number in range(2 ** web[0]):
+        taken = places_of_set(number)
+        for h in set(range(web[0])) - set(taken):
+            if numbers[number] > brings_by_hand(web, taken, h) + numbers[number + 2 ** h]:
+                steps.append((number, h))
+    if steps:
+        return ("step", min(steps))
+    if numbers[0] != sum(len(label) for label in labels_by_hand(web, order)):
+        return ("start", None)
+    return None
+
+
+def least_numbers_by_hand(web):
+    """For each set the fewest entries that the places left can still bring, by trying each row of them."""
+    found = []
+    for number in range(2 ** web[0]):
+        taken = places_of_set(number)
+        left = [place for place in range(web[0]) if place not in taken]
+        sums = []
+        for row in itertools.permutations(left):
+            ahead = [tuple(sorted(taken + row[:k])) for k in range(len(row))]
+            sums.append(sum(brings_by_hand(web, places, h) for places, h in zip(ahead, row)))
+        found.append(min(sums))
+    return tuple(found)
+
+
+def plan_rows(plan, above=()):
+    """For each number of a plan, in its order, the number and the own places of all plans round it, one row each."""
+    own_places, plans = plan
+    found = [(place, above + own_places) for place in own_places]
+    for part in plans:
+        found += plan_rows(part, above + own_places)
+    return found
+
+
+def plan_fault_by_hand(web, plan):
+    """The first word with a fault and its at, None where there is none; of things that are PLANs."""
+    order = [place for place, row in plan_rows(plan)]
+    for k, place in enumerate(order):
+        if place >= web[0] or place in order[:k]:
+            return ("place", place)
+    lacks = set(range(web[0])) - set(order)
+    if lacks:
+        return ("lacks", min(lacks))
+    chains = dict(plan_rows(plan))
+    apart = [(a, b) for a, b, long in web[1] if a not in chains[b] and b not in chains[a]]
+    return ("tie", apart[0]) if apart else None
+
+
+def plan_in_a_row(places):
+    """A plan within a plan within a plan, one place each; right for any web with these places."""
+    plan = None
+    for place in reversed(places):
+        plan = ((place,), () if plan is None else (plan,))
+    return plan
+
+
+def parts_by_hand(web, places):
+    """Places joined by ways that stay within them, by letting the parts of each tie's ends grow together."""
+    parts = [{place} for place in places]
+    for a, b, long in web[1]:
+        if a in places and b in places:
+            one = [part for part in parts if a in part][0]
+            other = [part for part in parts if b in part][0]
+            if one is not other:
+                parts.remove(other)
+                one |= other
+    return sorted(sorted(part) for part in parts)
+
+
+def parted_plan(web, order, places=None):
+    """A right plan of any web: of each part the place that is the first in the order is taken out, plan by plan."""
+    places = range(web[0]) if places is None else places
+    first = min(places, key=order.index)
+    return ((first,), tuple(parted_plan(web, order, part) for part in parts_by_hand(web, set(places) - {first})))
+
+
+def tree_plan_by_hand(web, places=None):
+    """The plan of a tree by the document's words."""
+    places = range(web[0]) if places is None else places
+    found = []
+    for place in places:
+        parts = parts_by_hand(web, set(places) - {place})
+        found.append((max((len(part) for part in parts), default=0), place))
+    middle = min(found)[1]
+    parts = parts_by_hand(web, set(places) - {middle})
+    return ((middle,), tuple(tree_plan_by_hand(web, part) for part in parts))
+
+
+def tree_of_row(n, row):
+    """The tree that a row of n - 2 places stands for: the least place not in it hangs on its first, again and again."""
+    left = list(range(n))
+    row = list(row)
+    ties = []
+    while len(left) > 2:
+        leaf = min(place for place in left if place not in row)
+        ties.append((leaf, row.pop(0)))
+        left.remove(leaf)
+    ties.append(tuple(left))
+    return web_of_pairs(n, ties)
+
+
+def web_of_pairs(n, pairs):
+    rising = sorted((min(pair), max(pair)) for pair in pairs)
+    return (n, tuple((a, b, 1 + (5 * a + 3 * b) % 99) for a, b in rising))
+
+
+def all_trees(n):
+    """Every tree of n places, by how its places are joined."""
+    if n == 1:
+        return [(1, ())]
+    return [tree_of_row(n, row) for row in itertools.product(range(n), repeat=n - 2)]
+
+
+def row_tree(n):
+    return web_of_pairs(n, [(k, k + 1) for k in range(n - 1)])
+
+
+def star_tree(n, middle):
+    return web_of_pairs(n, [(middle, k) for k in range(n) if k != middle])
+
+
+def great_trees():
+    """Trees of 1 to 24 places: rows, stars, forks, combs and crosswise ones."""
+    for n in range(1, 25):
+        yield row_tree(n)
+        yield star_tree(n, n // 2)
+        yield web_of_pairs(n, [(k, (k - 1) // 2) for k in range(1, n)])
+        yield web_of_pairs(n, [(k, k - 2 + k % 2) for k in range(1, n)])
+        for step in (5, 7, 11):
+            if n % step:
+                names = [(step * k + 3) % n for k in range(n)]
+                yield web_of_pairs(n, [(names[k], names[k * k // step % k]) for k in range(1, n)])
+                yield web_of_pairs(n, [(names[k], names[k - 1]) for k in range(1, n)])
+                yield web_of_pairs(n, [(names[k], names[max(0, k - 3)]) for k in range(1, n)])

@@ -6,8 +6,9 @@ from by_hand import (
     all_orders, fault_by_hand, full_labels, great_orders, great_webs, joined_by_hand, labels_by_hand, lengths_by_hand,
     nested, own, put_in, small_webs, turned_labels, with_kinds,
 )
+from checked import Checked
 from labelways.checker import lets_labels
-from labelways.errors import NoLabels, WayError
+from labelways.errors import NoLabels
 from labelways.labels import next_step, told, walk
 from labelways.orders import by_order
 
@@ -21,26 +22,13 @@ WEB = (7, ((0, 1, 2), (0, 2, 1), (0, 3, 6), (1, 3, 3), (2, 3, 4), (3, 4, 10), (5
 PARTED = (4, ((0, 2, 1), (1, 3, 2)))
 
 
-class Checked(unittest.TestCase):
-    def assertLetBy(self, web, thing):
-        self.assertIs(lets_labels(web, thing), True, (web, thing))
-
-    def assertFault(self, web, thing, word, at):
-        with self.assertRaises(NoLabels) as caught:
-            lets_labels(web, thing)
-        self.assertIs(type(caught.exception), NoLabels)
-        self.assertIsInstance(caught.exception, WayError)
-        found = (caught.exception.word, caught.exception.at)
-        self.assertEqual(with_kinds(found), with_kinds((word, at)), (web, repr(thing)[:200]))
+class CheckedLabels(Checked):
+    checker = staticmethod(lets_labels)
+    refusal = NoLabels
 
     def assertAsByHand(self, web, labels):
-        """The answer is that told by hand; whether it is to let by comes back."""
-        fault = fault_by_hand(web, labels)
-        if fault is None:
-            self.assertLetBy(web, labels)
-        else:
-            self.assertFault(web, labels, fault[0], fault[1])
-        return fault is None
+        """Whether it is to let by comes back."""
+        return self.assertAnswer(web, labels, fault_by_hand(web, labels)) is None
 
     def assertTellsTheWeb(self, web, labels):
         rows = lengths_by_hand(web)
@@ -56,7 +44,7 @@ class Checked(unittest.TestCase):
                 self.assertEqual(sum(ties[step] for step in zip(gone, gone[1:])), rows[a][b], (web, labels, gone))
 
 
-class LetBy(Checked):
+class LetBy(CheckedLabels):
     def test_one_place_and_no_tie(self):
         self.assertLetBy((1, ()), ((own(0),),))
         for n in range(1, 25):
@@ -93,7 +81,7 @@ class LetBy(Checked):
             self.assertTellsTheWeb(web, labels)
 
 
-class LetByThoughByNoOrder(Checked):
+class LetByThoughByNoOrder(CheckedLabels):
     def check(self, web, labels):
         for order in all_orders(web[0]):
             self.assertNotEqual(labels, by_order(web, order))
@@ -132,7 +120,7 @@ class LetByThoughByNoOrder(Checked):
         ))
 
 
-class Shape(Checked):
+class Shape(CheckedLabels):
     def test_things_of_other_kinds(self):
         things = [None, True, False, 0, 1, 3, -1, 10 ** 39, "", "label", "x" * 2000, (), [], (None,), [[]], ((),)]
         things += [(own(0),), own(0), ((), (), ()), [[], [], []], (None, None, None), ("", "", ""), (0, 0, 0)]
@@ -178,7 +166,7 @@ class Shape(Checked):
         self.assertFault(ROW, ((own(1),), (own(2),), ((0, 7, 2, 2), own(1), (2, 0, None, 1))), "shape", None)
 
 
-class Own(Checked):
+class Own(CheckedLabels):
     def test_least_place(self):
         singles = [(own(k),) for k in range(4)]
         for owns in itertools.product(range(4), repeat=4):
@@ -202,7 +190,7 @@ class Own(Checked):
         self.assertFault(ROW, (((0, 0, None, None), (1, 7, 0, 0)), (own(1),), (own(0),)), "own", 2)
 
 
-class Up(Checked):
+class Up(CheckedLabels):
     def test_not_beside(self):
         # 0 and 2 are not beside one another; a place is not beside itself.
         self.assertFault(ROW, ((own(0), (2, 5, 2, 1)), (own(1), (2, 3, 2, 1)), (own(2),)), "up", (0, 2))
@@ -244,7 +232,7 @@ class Up(Checked):
         self.assertFault(ROW, ((own(0),), (own(1),), ((1, 4, 1, 2), own(2))), "up", (2, 1))
 
 
-class Tie(Checked):
+class Tie(CheckedLabels):
     def test_none_told(self):
         self.assertFault(PAIR, ((own(0),), (own(1),)), "tie", (0, 0, 1))
         self.assertFault((4, ((2, 3, 1),)), tuple((own(k),) for k in range(4)), "tie", (2, 2, 3))
@@ -290,7 +278,7 @@ class Tie(Checked):
         self.assertFault(ROW, ((own(0), (1, 2, 1, 2)), (own(1), (2, 3, 2, 1)), (own(2),)), "tie", (0, 1, 2))
 
 
-class Down(Checked):
+class Down(CheckedLabels):
     def test_not_beside_the_hub(self):
         labels = by_order(ROW, (0, 1, 2))
         self.assertEqual(labels[2][0], (0, 5, 1, 1))
@@ -320,7 +308,7 @@ class Down(Checked):
             self.assertFault(RING, labels, "down", first)
 
 
-class EachWord(Checked):
+class EachWord(CheckedLabels):
     def test_turned_in_one_entry(self):
         """As told by hand, and what is let by tells the web, whoever wrote it."""
         let_by = 0
@@ -363,7 +351,7 @@ class EachWord(Checked):
                             self.assertAsByHand(web, put_in(labels, v, label))
 
 
-class HandedIn(Checked):
+class HandedIn(CheckedLabels):
     def test_stays_as_it_was(self):
         labels = by_order(WEB, (3, 6, 0, 5, 1, 2, 4))
         for thing in (labels, list(labels), [list(label) for label in labels], labels[::-1], full_labels(WEB), [[], 1]):
