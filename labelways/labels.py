@@ -1,6 +1,6 @@
 """Labels: whether a thing is one, and what two of them tell by themselves."""
 
-from labelways.kinds import is_number, is_rising, is_tuple_of, is_within
+from labelways.kinds import is_number, is_place, is_rising, is_tuple_of
 
 
 def is_label(n, thing):
@@ -14,13 +14,13 @@ def is_label(n, thing):
 
 
 def is_entry(n, thing):
-    if not is_tuple_of(thing, 4) or not is_within(thing[0], 0, n - 1):
+    if not is_tuple_of(thing, 4) or not is_place(n, thing[0]):
         return False
     if not is_number(thing[1]) or thing[1] < 0:
         return False
     if thing[1] == 0:
         return thing[2] is None and thing[3] is None
-    return is_within(thing[2], 0, n - 1) and is_within(thing[3], 0, n - 1)
+    return is_place(n, thing[2]) and is_place(n, thing[3])
 
 
 def are_labels(n, thing):

@@ -1,13 +1,13 @@
 """Orders of a web's places, and the labels that come by one."""
 
 from labelways.errors import NoOrder
-from labelways.kinds import is_tuple_of, is_within
+from labelways.kinds import is_place, is_tuple_of
 from labelways.lengths import between_rows, lengths, next_by_row
 
 
 def is_order(web, thing):
     n = web[0]
-    if not is_tuple_of(thing, n) or not all([is_within(place, 0, n - 1) for place in thing]):
+    if not is_tuple_of(thing, n) or not all([is_place(n, place) for place in thing]):
         return False
     return len(set(thing)) == n
 

@@ -1,7 +1,7 @@
 """Plans that part a web: whether a thing is one, what it tells of its places, and whether it is right for a web."""
 
 from labelways.errors import NoPlan
-from labelways.kinds import is_number, is_rising, is_tuple_of, is_within
+from labelways.kinds import is_number, is_place, is_rising, is_tuple_of
 
 MOST_WITHIN = 24
 
@@ -66,7 +66,7 @@ def refuse_at(word, at):
 def place_fault(web, plan):
     ahead = {}
     for place in plan_order(plan):
-        if place in ahead or not is_within(place, 0, web[0] - 1):
+        if place in ahead or not is_place(web[0], place):
             return place
         ahead[place] = True
     return None

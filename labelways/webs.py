@@ -1,6 +1,6 @@
 """Webs: whether a thing is one, and what its ties tell of its places."""
 
-from labelways.kinds import is_rising, is_tuple_of, is_within
+from labelways.kinds import is_place, is_rising, is_tuple_of, is_within
 
 MOST_PLACES = 24
 MOST_TIES = 60
@@ -26,9 +26,13 @@ def are_ties(n, thing):
 def is_tie(n, thing):
     if not is_tuple_of(thing, 3):
         return False
-    if not is_within(thing[0], 0, n - 1) or not is_within(thing[1], 0, n - 1):
+    if not is_place(n, thing[0]) or not is_place(n, thing[1]):
         return False
-    return thing[0] < thing[1] and is_within(thing[2], 1, MOST_LONG)
+    return thing[0] < thing[1] and is_long(thing[2])
+
+
+def is_long(thing):
+    return is_within(thing, 1, MOST_LONG)
 
 
 def ties_at(web, place):

@@ -3,6 +3,15 @@
 import functools
 import itertools
 
+# No orders of a web of three places.
+NO_ORDERS = [
+    (), (0,), (0, 1), (0, 1, 2, 3), (0, 1, 2, 0), (0, 0, 1), (1, 1, 1), (0, 2, 2), (0, 1, 3), (1, 2, 3), (-1, 0, 1),
+    (-1, 1, 2), (0, 1, -1), (0, 1, 10 ** 39), (0, 1, -(10 ** 39)), [0, 1, 2], [], [2, 1, 0], ([0, 1, 2],),
+    ((0, 1, 2),), ((0, 1, 2), ()), (0, True, 2), (False, 1, 2), (False, True, 2), (0, 2, True), (0, 1, None),
+    (None, None, None), (0, 1, "2"), (0, 1, ""), ("0", "1", "2"), (0, 1, (2,)), (0, 1, [2]), (0, 1, ()), (0, [], 2),
+    ([], [], []), ((), (), ()), None, True, False, 0, 1, 2, 3, -1, 10 ** 39, "", "012", "0 1 2", "x" * 2000,
+]
+
 
 def nested(kind, depth):
     thing = kind()
@@ -341,3 +350,68 @@ def great_trees():
                 yield web_of_pairs(n, [(names[k], names[k * k // step % k]) for k in range(1, n)])
                 yield web_of_pairs(n, [(names[k], names[k - 1]) for k in range(1, n)])
                 yield web_of_pairs(n, [(names[k], names[max(0, k - 3)]) for k in range(1, n)])
+
+
+def ring_of(names, longs):
+    """A web whose places, seated as the names tell, lie in a ring; each long is that of the tie to the next one."""
+    seats = zip(names, names[1:] + names[:1], longs)
+    return (len(names), tuple(sorted((min(a, b), max(a, b), long) for a, b, long in seats)))
+
+
+def ring_labels_by_hand(names, longs):
+    """Turned and, where need be, mirrored so that 0 is the first and the second is less than the last."""
+    n = len(names)
+    start = names.index(0)
+    seats = [(start + k) % n for k in range(n)]
+    ties = {frozenset((names[k], names[(k + 1) % n])): longs[k] for k in range(n)}
+    if names[seats[1]] > names[seats[-1]]:
+        seats = seats[:1] + seats[:0:-1]
+    row = [names[seat] for seat in seats]
+    labels = [None] * n
+    for k, place in enumerate(row):
+        along = sum(ties[frozenset(row[j:j + 2])] for j in range(k))
+        labels[place] = (along, sum(longs), (row + row)[k + 1], (row + row)[k + n - 1])
+    return tuple(labels)
+
+
+def great_rings():
+    """Seats and longs of rings of 3 to 24 places: by numbers, falling, crosswise; alike, unlike, one tie overlong."""
+    for n in range(3, 25):
+        seatings = [tuple(range(n)), tuple(reversed(range(n)))]
+        seatings += [tuple((step * k + 2) % n for k in range(n)) for step in (5, 7, 11) if n % step]
+        for names in seatings:
+            yield names, (1,) * n
+            yield names, (99,) * n
+            yield names, tuple(1 + (7 * k * k + 3 * n) % 99 for k in range(n))
+            yield names, (1,) * (n // 2) + (99,) + (1,) * (n - n // 2 - 1)
+
+
+def some_posts(n):
+    """Posts of n places: each one alone, all of them, and some rows of them."""
+    found = [(place,) for place in range(n)] + [tuple(range(n))]
+    found += [tuple(range(start, n, step)) for step in (2, 3, 5, 7) for start in (0, 1) if start < n]
+    return sorted(set(found))
+
+
+def near_labels_by_hand(web, posts):
+    labels = []
+    for v, row in enumerate(lengths_by_hand(web)):
+        far = {post: row[post] for post in posts if row[post] is not None}
+        least = min(far.values(), default=10 ** 9)
+        homes = [(post, least) for post in posts if far.get(post) == least]
+        near = [(place, long) for place, long in enumerate(row) if long is not None and long < least]
+        labels.append((v, homes[0] if homes else None, tuple(near), tuple(sorted(far.items()))))
+    return tuple(labels)
+
+
+def near_told_by_hand(web, posts, one, other):
+    """By lengths and posts, without any label."""
+    rows = lengths_by_hand(web)
+    homes = []
+    for place in (one, other):
+        homes.append(min(((rows[place][post], post) for post in posts if rows[place][post] is not None), default=None))
+    if rows[one][other] is None:
+        return None
+    if any(home is None or rows[one][other] < home[0] for home in homes):
+        return rows[one][other]
+    return min(homes[0][0] + rows[other][homes[0][1]], homes[1][0] + rows[one][homes[1][1]])

@@ -1,9 +1,17 @@
-"""What the tests of each checker share."""
+"""What the tests of refusals, and of each checker, share."""
 
 import unittest
 
 from by_hand import with_kinds
 from labelways.errors import WayError
+
+
+class Refusing(unittest.TestCase):
+    def assertRefused(self, refusal, deed, *things):
+        with self.assertRaises(refusal) as caught:
+            deed(*things)
+        self.assertIs(type(caught.exception), refusal, repr(things)[:200])
+        self.assertIsInstance(caught.exception, WayError)
 
 
 class Checked(unittest.TestCase):

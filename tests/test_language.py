@@ -30,6 +30,11 @@ WORDS = """
     type typing typing_extensions enum Enum IntEnum StrEnum Flag IntFlag Generic Protocol ABC ABCMeta namedtuple
     NamedTuple TypedDict TYPE_CHECKING abstractmethod
 """.split()
+WALKED = "range zip enumerate reversed items keys values".split()
+WALKERS = "list tuple dict sorted sum any all enumerate zip min max join".split()
+NO_FIELDS = """
+    items keys values pop update append clear extend insert remove reverse setdefault sort args encode format
+""".split()
 TAKEN = [name for name in dir(builtins) if not name.startswith("__")]
 PARTS_OF_WORDS = ["dataclass", "overload", "contextmanager"]
 
@@ -64,6 +69,10 @@ def own_methods():
         if isinstance(node, ast.ClassDef):
             found.extend(part.name for part in node.body if isinstance(part, ast.FunctionDef))
     return found
+
+
+def called(node):
+    return node.func.id if isinstance(node.func, ast.Name) else getattr(node.func, "attr", None)
 
 
 def bound_names(node):
@@ -153,7 +162,8 @@ class Forms(unittest.TestCase):
                 self.assertEqual(len(node.generators), 1, where)
                 self.assertLessEqual(len(node.generators[0].ifs), 1, where)
             if isinstance(node, ast.Compare) and isinstance(node.ops[0], (ast.Is, ast.IsNot)):
-                self.assertIn(ast.dump(node.comparators[0]), [f"Constant(value={v})" for v in (None, True, False)], where)
+                plain = [f"Constant(value={value})" for value in (None, True, False)]
+                self.assertIn(ast.dump(node.comparators[0]), plain, where)
 
 
 class Names(unittest.TestCase):
@@ -195,6 +205,24 @@ class Names(unittest.TestCase):
                         user = above[id(user)]
                     within = isinstance(user, ast.Call) and getattr(user.func, "id", None) in ("sorted", "len")
                     self.assertTrue(within or isinstance(user, ast.Compare), (path.name, node.lineno))
+
+    def test_walked_on_the_spot(self):
+        """A range, a zip and their like stand behind the in of a walk, or as the first thing in what walks them."""
+        for path in files():
+            tree = tree_of(path)
+            above = {id(child): node for node in ast.walk(tree) for child in ast.iter_child_nodes(node)}
+            for node in ast.walk(tree):
+                if isinstance(node, ast.Call) and called(node) in WALKED:
+                    user = above[id(node)]
+                    walks = isinstance(user, (ast.For, ast.comprehension)) and user.iter is node
+                    first = isinstance(user, ast.Call) and called(user) in WALKERS and user.args[0] is node
+                    self.assertTrue(walks or first, (path.name, node.lineno))
+
+    def test_no_name_is_a_method_here_and_a_value_there(self):
+        fields = [node.attr for where, node in all_nodes()
+                  if isinstance(node, ast.Attribute) and isinstance(node.ctx, ast.Store)]
+        self.assertEqual(set(fields) & set(own_methods()), set())
+        self.assertEqual(set(fields) & set(NO_FIELDS), set())
 
     def test_methods(self):
         methods = METHODS + own_methods()

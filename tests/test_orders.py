@@ -3,8 +3,8 @@ import itertools
 import unittest
 
 from by_hand import (
-    all_orders, full_labels, great_orders, great_webs, labels_by_hand, lengths_by_hand, nested, own, shortest_ways,
-    small_webs, with_kinds,
+    NO_ORDERS, all_orders, full_labels, great_orders, great_webs, labels_by_hand, lengths_by_hand, nested, own,
+    shortest_ways, small_webs, with_kinds,
 )
 from labelways.errors import NoOrder, WayError
 from labelways.labels import are_labels, told
@@ -13,13 +13,6 @@ from labelways.orders import by_order, is_order, longest, total
 ROW = (3, ((0, 1, 2), (1, 2, 3)))
 # 0 to 3 has two ways of 5, by 1 and by 2; 4 hangs on 3; 5 and 6 lie apart.
 WEB = (7, ((0, 1, 2), (0, 2, 1), (0, 3, 6), (1, 3, 3), (2, 3, 4), (3, 4, 10), (5, 6, 8)))
-NO_ORDERS = [
-    (), (0,), (0, 1), (0, 1, 2, 3), (0, 1, 2, 0), (0, 0, 1), (1, 1, 1), (0, 2, 2), (0, 1, 3), (1, 2, 3), (-1, 0, 1),
-    (-1, 1, 2), (0, 1, -1), (0, 1, 10 ** 39), (0, 1, -(10 ** 39)), [0, 1, 2], [], [2, 1, 0], ([0, 1, 2],),
-    ((0, 1, 2),), ((0, 1, 2), ()), (0, True, 2), (False, 1, 2), (False, True, 2), (0, 2, True), (0, 1, None),
-    (None, None, None), (0, 1, "2"), (0, 1, ""), ("0", "1", "2"), (0, 1, (2,)), (0, 1, [2]), (0, 1, ()), (0, [], 2),
-    ([], [], []), ((), (), ()), None, True, False, 0, 1, 2, 3, -1, 10 ** 39, "", "012", "0 1 2", "x" * 2000,
-]
 
 
 class IsOrder(unittest.TestCase):

@@ -6,7 +6,8 @@ from by_hand import (
     all_trees, great_trees, great_webs, parts_by_hand, plan_fault_by_hand, plan_rows, row_tree, small_webs, star_tree,
     tree_plan_by_hand, web_of_pairs, with_kinds,
 )
-from labelways.errors import NoTree, WayError
+from checked import Refusing
+from labelways.errors import NoTree
 from labelways.orders import by_order, longest
 from labelways.plans import chain, deepest, is_plan, lets_plan, plan_order
 from labelways.trees import tree_plan
@@ -119,12 +120,9 @@ class WhatFollows(unittest.TestCase):
                 self.assertLessEqual(2 * len(part), web[0])
 
 
-class Refused(unittest.TestCase):
+class Refused(Refusing):
     def assertNoTree(self, web):
-        with self.assertRaises(NoTree) as caught:
-            tree_plan(web)
-        self.assertIs(type(caught.exception), NoTree, web)
-        self.assertIsInstance(caught.exception, WayError)
+        self.assertRefused(NoTree, tree_plan, web)
 
     def test_tie_too_many(self):
         self.assertNoTree((3, ((0, 1, 1), (0, 2, 1), (1, 2, 1))))
