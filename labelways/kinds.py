@@ -1,4 +1,6 @@
-"""Of which kind a plain thing is."""
+"""Of which kind a plain thing is, and which number a word writes."""
+
+FIGURES = "0123456789"
 
 
 def is_number(thing):
@@ -28,3 +30,18 @@ def are_places(n, thing):
         return False
     # Only numbers can be asked whether they rise.
     return all([is_place(n, place) for place in thing]) and is_rising(thing)
+
+
+def number_in(word, least, most):
+    # Python reads no number of very many figures, so what has more than the most is left unread.
+    if len(word) > len(str(most)) or not is_written(word):
+        return None
+    number = int(word)
+    return number if is_within(number, least, most) else None
+
+
+def is_written(word):
+    # Python also reads figures of other scripts, signs and noughts ahead.
+    if word == "" or (word[0] == "0" and word != "0"):
+        return False
+    return all([sign in FIGURES for sign in word])

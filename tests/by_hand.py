@@ -11,6 +11,14 @@ NO_ORDERS = [
     (None, None, None), (0, 1, "2"), (0, 1, ""), ("0", "1", "2"), (0, 1, (2,)), (0, 1, [2]), (0, 1, ()), (0, [], 2),
     ([], [], []), ((), (), ()), None, True, False, 0, 1, 2, 3, -1, 10 ** 39, "", "012", "0 1 2", "x" * 2000,
 ]
+# No rising tuples of one or more places of three.
+NO_PLACES = [
+    (), (3,), (-1,), (-1, 0), (0, 3), (2, 3), (0, 1, 2, 3), (1, 0), (2, 1), (2, 1, 0), (0, 2, 1), (0, 0), (1, 1),
+    (0, 1, 1), (0, 0, 1, 2), (0, 1, 2, 2), (True,), (False,), (0, True), (False, 1), (True, 2), (None,), (0, None),
+    (None, 0), ("0",), ("",), (0, "1"), ("0", "1"), ((0,),), ((0, 1),), (0, (1,)), ([0],), (0, [1]), ([],), ((),),
+    (0, ()), [], [0], [0, 1], [0, 1, 2], [[0]], [(0,)], 0, 1, 2, 3, -1, True, False, None, "", "0", "012", "x" * 2000,
+    (10 ** 39,), (0, 10 ** 39), (-(10 ** 39), 0), 10 ** 39, (0, 1, 10 ** 39),
+]
 
 
 def nested(kind, depth):
@@ -415,3 +423,84 @@ def near_told_by_hand(web, posts, one, other):
     if any(home is None or rows[one][other] < home[0] for home in homes):
         return rows[one][other]
     return min(homes[0][0] + rows[other][homes[0][1]], homes[1][0] + rows[one][homes[1][1]])
+
+
+def all_places(n):
+    """Every rising tuple of one or more of n places."""
+    for count in range(1, n + 1):
+        yield from itertools.combinations(range(n), count)
+
+
+def is_part_by_hand(web, places):
+    """Whether no place that lacks stands on a shortest way between two of these, by lengths alone."""
+    rows = lengths_by_hand(web)
+    lacking = [p for p in range(web[0]) if p not in places]
+    for one, other in itertools.combinations(places, 2):
+        for p in lacking:
+            if None not in (rows[one][p], rows[p][other]) and rows[one][p] + rows[p][other] == rows[one][other]:
+                return False
+    return True
+
+
+def part_round(web, places):
+    """The least part that holds these places."""
+    rows = lengths_by_hand(web)
+    found = set(places)
+    while not is_part_by_hand(web, sorted(found)):
+        for one, other in itertools.combinations(sorted(found), 2):
+            if rows[one][other] is not None:
+                reached = [p for p in range(web[0]) if rows[one][p] is not None]
+                found |= {p for p in reached if rows[one][p] + rows[p][other] == rows[one][other]}
+    return tuple(sorted(found))
+
+
+@functools.lru_cache(maxsize=None)
+def great_parts(web):
+    """Parts of a great web: round each place, round some twos and threes, and all of it."""
+    found = {(place,) for place in range(web[0])} | {tuple(range(web[0]))}
+    for k in range(web[0]):
+        found.add(part_round(web, (k, (k + 7) % web[0])))
+        found.add(part_round(web, (k, (5 * k + 1) % web[0], (11 * k + 4) % web[0])))
+    return sorted(found)
+
+
+def part_web_by_hand(web, places):
+    ties = joined_by_hand(web)
+    pairs = itertools.combinations(range(len(places)), 2)
+    return (len(places), tuple((a, b, ties[places[a], places[b]]) for a, b in pairs if (places[a], places[b]) in ties))
+
+
+def part_order_by_hand(order, places):
+    return tuple(sorted(range(len(places)), key=lambda k: order.index(places[k])))
+
+
+def cut_by_hand(labels, places):
+    """The labels cut down, each number by how many of the places are below it."""
+    def new(place):
+        return None if place is None else len([p for p in places if p < place])
+
+    found = []
+    for place in places:
+        kept = [entry for entry in labels[place] if entry[0] in places]
+        found.append(tuple((new(hub), long, new(up), new(down)) for hub, long, up, down in kept))
+    return tuple(found)
+
+
+def step_by_hand(labels, one, other):
+    """The next step that two labels tell, by the document's words."""
+    here = {entry[0]: entry for entry in labels[one]}
+    there = {entry[0]: entry for entry in labels[other]}
+    sums = sorted((here[hub][1] + there[hub][1], hub) for hub in here if hub in there)
+    if one == other or not sums:
+        return None
+    hub = sums[0][1]
+    return there[hub][3] if hub == one else here[hub][2]
+
+
+def walk_by_hand(labels, one, other):
+    if told_by_hand(labels[one], labels[other]) is None:
+        return []
+    gone = [one]
+    while gone[-1] != other:
+        gone.append(step_by_hand(labels, gone[-1], other))
+    return gone

@@ -3,7 +3,7 @@
 import unittest
 
 from by_hand import with_kinds
-from labelways.errors import WayError
+from labelways.errors import NoText, WayError
 
 
 class Refusing(unittest.TestCase):
@@ -12,6 +12,16 @@ class Refusing(unittest.TestCase):
             deed(*things)
         self.assertIs(type(caught.exception), refusal, repr(things)[:200])
         self.assertIsInstance(caught.exception, WayError)
+
+
+class Reading(Refusing):
+    def assertNoText(self, line, word, deed, *things):
+        with self.assertRaises(NoText) as caught:
+            deed(*things)
+        self.assertIs(type(caught.exception), NoText)
+        self.assertIsInstance(caught.exception, WayError)
+        found = (caught.exception.line, caught.exception.word)
+        self.assertEqual(with_kinds(found), with_kinds((line, word)), repr(things)[:400])
 
 
 class Checked(unittest.TestCase):

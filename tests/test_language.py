@@ -36,6 +36,10 @@ NO_FIELDS = """
     items keys values pop update append clear extend insert remove reverse setdefault sort args encode format
 """.split()
 TAKEN = [name for name in dir(builtins) if not name.startswith("__")]
+KEYWORDS = {
+    "sorted": ["key", "reverse"], "min": ["key", "default"], "max": ["key", "default"], "sum": ["start"],
+    "enumerate": ["start"], "zip": ["strict"],
+}
 PARTS_OF_WORDS = ["dataclass", "overload", "contextmanager"]
 
 
@@ -166,6 +170,48 @@ class Forms(unittest.TestCase):
                 self.assertIn(ast.dump(node.comparators[0]), plain, where)
 
 
+    def test_texts_with_names(self):
+        for where, node in all_nodes():
+            if isinstance(node, ast.FormattedValue):
+                self.assertIsInstance(node.value, ast.Name, where)
+                self.assertIsNone(node.format_spec, where)
+                self.assertIn(node.conversion, (-1, ord("r")), where)
+
+    def test_powers(self):
+        for where, node in all_nodes():
+            if isinstance(node, ast.BinOp) and isinstance(node.op, ast.Pow):
+                self.assertIn(ast.dump(node.right), [f"Constant(value={k})" for k in range(65)], where)
+
+    def test_keywords(self):
+        for where, node in all_nodes():
+            if isinstance(node, ast.Call):
+                for keyword in node.keywords:
+                    self.assertIn(keyword.arg, KEYWORDS.get(called(node), []), where)
+
+    def test_errors_raised_and_taken(self):
+        refusals = names_at_top(tree_of(PACKAGE / "errors.py"))
+        for where, node in all_nodes():
+            if isinstance(node, ast.Raise):
+                self.assertIsInstance(node.exc, ast.Call, where)
+                self.assertIn(called(node.exc), refusals, where)
+            if isinstance(node, ast.ExceptHandler):
+                self.assertIsInstance(node.type, ast.Name, where)
+                self.assertIn(node.type.id, refusals + ["KeyError", "ZeroDivisionError", "StopIteration"], where)
+
+    def test_lists_and_dicts_at_the_top_are_only_read(self):
+        for path in files():
+            tree = tree_of(path)
+            above = {id(child): node for node in ast.walk(tree) for child in ast.iter_child_nodes(node)}
+            kept = [node.targets[0].id for node in tree.body
+                    if isinstance(node, ast.Assign) and isinstance(node.value, (ast.List, ast.Dict))]
+            for node in ast.walk(tree):
+                if isinstance(node, ast.Name) and node.id in kept and isinstance(node.ctx, ast.Load):
+                    user = above[id(node)]
+                    index = isinstance(user, ast.Subscript) and isinstance(user.ctx, ast.Load)
+                    get = isinstance(user, ast.Attribute) and user.attr == "get"
+                    self.assertTrue(index or get or isinstance(user, ast.Compare), (path.name, node.lineno))
+
+
 class Names(unittest.TestCase):
     def test_python_s_own(self):
         for where, node in all_nodes():
@@ -229,6 +275,15 @@ class Names(unittest.TestCase):
         for where, node in all_nodes():
             if isinstance(node, ast.Call) and isinstance(node.func, ast.Attribute):
                 self.assertIn(node.func.attr, methods, where)
+
+    def test_methods_are_called_where_they_stand(self):
+        methods = METHODS + own_methods()
+        for path in files():
+            tree = tree_of(path)
+            calls = [id(node.func) for node in ast.walk(tree) if isinstance(node, ast.Call)]
+            for node in ast.walk(tree):
+                if isinstance(node, ast.Attribute) and isinstance(node.ctx, ast.Load) and node.attr in methods:
+                    self.assertIn(id(node), calls, (path.name, node.lineno))
 
 
 class Imports(unittest.TestCase):

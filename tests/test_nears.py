@@ -3,7 +3,8 @@ import itertools
 import unittest
 
 from by_hand import (
-    great_webs, lengths_by_hand, near_labels_by_hand, near_told_by_hand, nested, small_webs, some_posts, with_kinds,
+    NO_PLACES, great_webs, lengths_by_hand, near_labels_by_hand, near_told_by_hand, nested, small_webs, some_posts,
+    with_kinds,
 )
 from checked import Refusing
 from labelways.errors import NoPosts
@@ -13,13 +14,6 @@ ROW = (3, ((0, 1, 2), (1, 2, 3)))
 FIVE = (5, ((0, 1, 1), (1, 2, 1), (2, 3, 1), (3, 4, 1)))
 # 0 to 3 has two ways of 5, by 1 and by 2; 4 hangs on 3; 5 and 6 lie apart.
 WEB = (7, ((0, 1, 2), (0, 2, 1), (0, 3, 6), (1, 3, 3), (2, 3, 4), (3, 4, 10), (5, 6, 8)))
-NO_POSTS = [
-    (), (3,), (-1,), (-1, 0), (0, 3), (2, 3), (0, 1, 2, 3), (1, 0), (2, 1), (2, 1, 0), (0, 2, 1), (0, 0), (1, 1),
-    (0, 1, 1), (0, 0, 1, 2), (0, 1, 2, 2), (True,), (False,), (0, True), (False, 1), (True, 2), (None,), (0, None),
-    (None, 0), ("0",), ("",), (0, "1"), ("0", "1"), ((0,),), ((0, 1),), (0, (1,)), ([0],), (0, [1]), ([],), ((),),
-    (0, ()), [], [0], [0, 1], [0, 1, 2], [[0]], [(0,)], 0, 1, 2, 3, -1, True, False, None, "", "0", "012", "x" * 2000,
-    (10 ** 39,), (0, 10 ** 39), (-(10 ** 39), 0), 10 ** 39, (0, 1, 10 ** 39),
-]
 
 
 class NearLabels(unittest.TestCase):
@@ -233,7 +227,7 @@ class Refused(Refusing):
         self.assertRefused(NoPosts, near_labels, web, thing)
 
     def test_no_posts(self):
-        for thing in NO_POSTS:
+        for thing in NO_PLACES:
             self.assertNoPosts(ROW, thing)
 
     def test_everything_short(self):
