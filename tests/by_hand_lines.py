@@ -10,6 +10,18 @@ NO_NUMBERS = [
 ]
 
 
+def web_lines_by_hand(web):
+    return ["web " + str(web[0])] + [" ".join(["tie"] + [str(number) for number in tie]) for tie in web[1]]
+
+
+def label_lines_by_hand(labels):
+    found = []
+    for label in labels:
+        words = [":".join("-" if number is None else str(number) for number in entry) for entry in label]
+        found.append(" ".join(["label"] + words))
+    return found
+
+
 def written(least, most):
     """The numbers from the least to the most as they are written."""
     return [str(number) for number in range(least, most + 1)]

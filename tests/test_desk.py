@@ -5,7 +5,7 @@ from by_hand import (
     all_orders, fault_by_hand, full_labels, great_orders, great_webs, joined_by_hand, labels_by_hand, lengths_by_hand,
     small_webs, step_by_hand, turned_labels, walk_by_hand,
 )
-from by_hand_lines import NO_NUMBERS, labels_text_fault, turned_lines
+from by_hand_lines import NO_NUMBERS, label_lines_by_hand, labels_text_fault, turned_lines, web_lines_by_hand
 from checked import Reading
 from labelways.desk import Desk
 from labelways.errors import NoOrder, NoRow, NoTie
@@ -82,12 +82,12 @@ class DeskByHand:
         """Each row that only asks, with its answer."""
         labels = self.labels()
         rows = lengths_by_hand(self.web)
-        found = {"web": "; ".join(web_lines(self.web)), "total": str(sum(len(label) for label in labels))}
+        found = {"web": "; ".join(web_lines_by_hand(self.web)), "total": str(sum(len(label) for label in labels))}
         for one, other in itertools.product(range(self.web[0]), repeat=2):
             found[f"told {one} {other}"] = told_word(rows[one][other])
             found[f"step {one} {other}"] = told_word(step_by_hand(labels, one, other))
             found[f"walk {one} {other}"] = told_words(walk_by_hand(labels, one, other))
-        for place, line in enumerate(label_lines(labels)):
+        for place, line in enumerate(label_lines_by_hand(labels)):
             found[f"label {place}"] = line
         return found
 

@@ -5,7 +5,7 @@ import unittest
 from by_hand import (
     all_orders, full_labels, great_orders, great_webs, labels_by_hand, own, small_webs, turned_labels, with_kinds,
 )
-from by_hand_lines import NO_NUMBERS, labels_text_fault, turned_lines
+from by_hand_lines import NO_NUMBERS, label_lines_by_hand, labels_text_fault, turned_lines
 from checked import Reading
 from labelways.labels import are_labels
 from labelways.labeltexts import label_lines, read_labels
@@ -19,11 +19,6 @@ OTHERS = [
     "", "label", "0:0:-:-", "1:0:-:-", "2:0:-:-", "3:0:-:-", "0:1:0:0", "1:7:0:2", "2:9:2:2", "2:999999999999:0:1",
     "2:1000000000000:0:1", "1:5:3:0", "1:5:0:3", "1:0:0:0", "1:5:-:-", "1:5:-:0", "1:0:-:0", "1:5:0", "1:5:0:0:0",
 ]
-
-
-def line_by_hand(label):
-    words = [":".join(["-" if number is None else str(number) for number in entry]) for entry in label]
-    return " ".join(["label"] + words)
 
 
 def read_by_hand(lines):
@@ -56,12 +51,12 @@ class LabelLines(unittest.TestCase):
     def test_each_small_web(self):
         for web, order in zip(small_webs(), itertools.cycle(all_orders(4))):
             labels = labels_by_hand(web, order)
-            self.check(labels, [line_by_hand(label) for label in labels])
+            self.check(labels, label_lines_by_hand(labels))
 
     def test_great_webs(self):
         for web, order in zip(great_webs(), itertools.cycle(great_orders())):
             for labels in (labels_by_hand(web, order), full_labels(web)):
-                self.check(labels, [line_by_hand(label) for label in labels])
+                self.check(labels, label_lines_by_hand(labels))
 
 
 class ReadLabels(unittest.TestCase):

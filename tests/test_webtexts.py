@@ -3,7 +3,7 @@ import itertools
 import unittest
 
 from by_hand import great_orders, great_rings, great_trees, great_webs, ring_of, small_webs, with_kinds
-from by_hand_lines import NO_NUMBERS, turned_lines, web_text_fault
+from by_hand_lines import NO_NUMBERS, turned_lines, web_lines_by_hand, web_text_fault
 from checked import Reading
 from labelways.webs import is_web
 from labelways.webtexts import read_web, web_lines
@@ -15,10 +15,6 @@ PAIRS = list(itertools.combinations(range(24), 2))
 SIXTY = (24, tuple((a, b, 1 + (7 * a + 5 * b) % 99) for a, b in PAIRS[:60]))
 ROW = ["web 4", "tie 0 1 5", "tie 1 2 6", "tie 2 3 7"]
 OTHERS = ["", "web", "tie", "0", "1", "2", "3", "4", "23", "24", "25", "99", "100", "01", "-1", "x"]
-
-
-def lines_by_hand(web):
-    return ["web " + str(web[0])] + [" ".join(["tie"] + [str(number) for number in tie]) for tie in web[1]]
 
 
 class WebLines(unittest.TestCase):
@@ -38,11 +34,11 @@ class WebLines(unittest.TestCase):
 
     def test_each_small_web(self):
         for web in small_webs():
-            self.check(web, lines_by_hand(web))
+            self.check(web, web_lines_by_hand(web))
 
     def test_great_webs(self):
         for web in itertools.chain(great_webs(), great_trees(), [SIXTY]):
-            self.check(web, lines_by_hand(web))
+            self.check(web, web_lines_by_hand(web))
 
     def test_somewhat_beyond_the_bounds(self):
         self.check((30, ((0, 29, 150),)), ["web 30", "tie 0 29 150"])
